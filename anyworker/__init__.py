@@ -1,0 +1,1 @@
+"""Anyworker: services that do not mind who serves."""
