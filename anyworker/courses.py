@@ -11,11 +11,11 @@ class Course:
 
     def __init__(self, service):
         self._service = service
-        self._cells = [name for name, _ in service.own + service.common]
+        self.cells = [name for name, _ in service.own + service.common]
         self._requests = requests_of(service)
         # Serving is slow, and the same states are asked for again and again.
         self._known = {}
-        self.start = tuple([0 for _ in self._cells])
+        self.start = tuple([0 for _ in self.cells])
 
     def ways(self, state):
         """Returns a list that has for each request the tuple (answer, state behind it)."""
@@ -24,12 +24,12 @@ class Course:
         return self._known[state]
 
     def _way(self, state, kind, argument):
-        told, now = served(self._service, kind, argument, dict(zip(self._cells, state)))
-        return told, tuple([now[name] for name in self._cells])
+        told, now = served(self._service, kind, argument, dict(zip(self.cells, state)))
+        return told, tuple([now[name] for name in self.cells])
 
     def forgotten(self, state, names):
         """Returns a state, but with 0 in the cells of these names."""
-        return tuple([0 if name in names else held for name, held in zip(self._cells, state)])
+        return tuple([0 if name in names else held for name, held in zip(self.cells, state)])
 
 
 class Likeness:

@@ -2,7 +2,7 @@
 
 from anyworker.courses import Course, first_parting
 from anyworker.errors import UnlikeKinds
-from anyworker.names import all_sets
+from anyworker.names import all_sets, has_more
 from anyworker.serving import check_request, requests_of, served
 
 
@@ -74,7 +74,7 @@ def forgettable(service):
     """Returns the list of all greatest sets of own cells that `forgetting` may take."""
     course = Course(service)
     good = [names for names in all_sets([name for name, _ in service.own]) if _can_forget(course, names)]
-    return [names for names in good if not any([_has_more(other, names) for other in good])]
+    return [names for names in good if not any([has_more(other, names) for other in good])]
 
 
 def _can_forget(course, names):
@@ -84,7 +84,3 @@ def _can_forget(course, names):
         return course.ways(course.forgotten(state, names))
 
     return first_parting(course.ways, ways, (course.start, course.start)) is None
-
-
-def _has_more(other, names):
-    return len(other) > len(names) and all([name in other for name in names])

@@ -25,3 +25,8 @@ def all_sets(names):
             for place in range(places[-1] + 1 if places else 0, len(names))
         ]
     return [[names[place] for place in places] for places in found]
+
+
+def has_more(other, names):
+    """Tells whether a set has all names of another one, and more."""
+    return len(other) > len(names) and all([name in other for name in names])

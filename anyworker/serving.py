@@ -1,6 +1,6 @@
 """How one request is served."""
 
-from anyworker.errors import InvalidArgument, UnknownKind
+from anyworker.errors import InvalidArgument, InvalidWorker, UnknownKind
 from anyworker.values import worth
 
 
@@ -16,6 +16,17 @@ def check_request(service, kind, argument):
         raise UnknownKind(kind)
     if not 0 <= argument < many[kind]:
         raise InvalidArgument(argument)
+
+
+def check_worker(worker):
+    """Raises InvalidWorker if the number of a worker is negative."""
+    if worker < 0:
+        raise InvalidWorker(worker)
+
+
+def at_first(service):
+    """Returns the tuples of the own and of the common values with which all begin."""
+    return tuple([0 for _ in service.own]), tuple([0 for _ in service.common])
 
 
 def served(service, kind, argument, held):
@@ -34,3 +45,11 @@ def served(service, kind, argument, held):
         else:
             return worth(step.parts[0], now, argument), now
     return None, now
+
+
+def served_apart(service, kind, argument, own, common):
+    """Returns the answer to a request, and the tuples of the own and common values behind it."""
+    names = [name for name, _ in service.own + service.common]
+    told, now = served(service, kind, argument, dict(zip(names, own + common)))
+    behind = tuple([now[name] for name in names])
+    return told, behind[:len(own)], behind[len(own):]

@@ -36,38 +36,38 @@ class Value:
         return isinstance(other, Value) and self.sign == other.sign and self.parts == other.parts
 
     def __add__(self, other):
-        return _joined("+", self, other)
+        return joined("+", self, other)
 
     def __radd__(self, other):
-        return _joined("+", other, self)
+        return joined("+", other, self)
 
     def __sub__(self, other):
-        return _joined("-", self, other)
+        return joined("-", self, other)
 
     def __rsub__(self, other):
-        return _joined("-", other, self)
+        return joined("-", other, self)
 
     def __mul__(self, other):
-        return _joined("*", self, other)
+        return joined("*", self, other)
 
     def __rmul__(self, other):
-        return _joined("*", other, self)
+        return joined("*", other, self)
 
     def __floordiv__(self, other):
         _check_divisor(other)
-        return _joined("//", self, other)
+        return joined("//", self, other)
 
     def __and__(self, other):
-        return _joined("&", self, other)
+        return joined("&", self, other)
 
     def __rand__(self, other):
-        return _joined("&", other, self)
+        return joined("&", other, self)
 
     def __or__(self, other):
-        return _joined("|", self, other)
+        return joined("|", self, other)
 
     def __ror__(self, other):
-        return _joined("|", other, self)
+        return joined("|", other, self)
 
     def __invert__(self):
         return Value("~", (self,), self._names)
@@ -75,15 +75,15 @@ class Value:
     def rest(self, n):
         """Returns what division by an integer leaves, from 0 to n - 1."""
         _check_divisor(n)
-        return _joined("mod", self, n)
+        return joined("mod", self, n)
 
     def same(self, other):
         """Returns the value that is 1 if both are equal, otherwise 0."""
-        return _joined("=", self, other)
+        return joined("=", self, other)
 
     def less(self, other):
         """Returns the value that is 1 if this one is less than the other one, otherwise 0."""
-        return _joined("<", self, other)
+        return joined("<", self, other)
 
     @property
     def names(self):
@@ -103,7 +103,7 @@ def _check_divisor(n):
         raise InvalidDivisor(n)
 
 
-def _joined(sign, one, other):
+def joined(sign, one, other):
     """Returns a value built of two, of which one may be an integer."""
     parts = (_as_value(one), _as_value(other))
     return Value(sign, parts, names_in(parts))

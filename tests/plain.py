@@ -286,6 +286,16 @@ def kind_steps(chance, names, many, signs):
     return steps
 
 
+def changed(chance, shape):
+    """The shape with the steps of one kind made anew."""
+    own, common, kinds = shape
+    names = [name for name, _ in own + common]
+    at = chance.randrange(len(kinds)) if kinds else 0
+    return own, common, [
+        (name, many, kind_steps(chance, names, 5, 3) if place == at else steps)
+        for place, (name, many, steps) in enumerate(kinds)]
+
+
 def memo_shape(chance):
     """A shape of a service whose cells of two values tell much the same."""
     own = [(name, 2) for name in "dbca"[:chance.randint(2, 4)]]

@@ -3,7 +3,7 @@
 import inspect
 import unittest
 
-from anyworker import machines, services, values
+from anyworker import fleets, machines, readings, services, texts, values, workers
 
 FUNCTIONS = {
     values: {
@@ -15,6 +15,14 @@ FUNCTIONS = {
         "run": "(service, requests)", "first_unlike": "(one, other)", "machine": "(service)",
         "forgettable": "(service)",
     },
+    workers: {
+        "serve": "(service, row)", "holds": "(service, row)", "parting": "(service)", "closed": "(service)",
+        "judge": "(service, table)", "fewest_missed": "(service)", "bound_parting": "(service, kinds)",
+        "mixed_parting": "(service, edition)", "least_sharings": "(service)", "breaking": "(service)",
+        "least_bindings": "(service)",
+    },
+    texts: {"show_value": "(value)", "show_steps": "(steps)", "show_service": "(service)"},
+    readings: {"read_value": "(text)", "read_steps": "(text)", "read_service": "(text)"},
 }
 
 METHODS = {
@@ -24,11 +32,20 @@ METHODS = {
     ],
     values.Step: ["names", "__eq__"],
     services.Service: ["__init__", "own", "common", "kinds", "__getitem__", "__len__", "__or__", "__eq__"],
+    fleets.Fleet: [
+        "__init__", "__call__", "take", "hand", "serve_all", "__getitem__", "__setitem__", "end", "store", "one",
+        "is_true", "undo", "row", "__len__", "__eq__",
+    ],
+    fleets.BoundFleet: ["__init__", "__call__", "bound"],
 }
 
 SIGNATURES = {
     values.Value.rest: "(self, n)", values.Value.same: "(self, other)", values.Value.less: "(self, other)",
     values.Value.at: "(self, held, argument)", services.Service.__init__: "(self, own, common, kinds)",
+    fleets.Fleet.__init__: "(self, service)", fleets.Fleet.__call__: "(self, kind, argument=0, worker=None)",
+    fleets.Fleet.take: "(self, worker)", fleets.Fleet.serve_all: "(self, row)", fleets.Fleet.end: "(self, worker)",
+    fleets.Fleet.undo: "(self)", fleets.Fleet.row: "(self)", fleets.BoundFleet.__init__: "(self, service, kinds)",
+    fleets.BoundFleet.__call__: "(self, kind, argument=0, worker=None)",
 }
 
 
@@ -49,7 +66,8 @@ class Interface(unittest.TestCase):
 
     def test_properties(self):
         for made, names in [(values.Value, ["names"]), (values.Step, ["names"]),
-                            (services.Service, ["own", "common", "kinds"])]:
+                            (services.Service, ["own", "common", "kinds"]),
+                            (fleets.Fleet, ["hand", "store", "one", "is_true"]), (fleets.BoundFleet, ["bound"])]:
             for name in names:
                 self.assertIsInstance(vars(made)[name], property)
 
@@ -57,3 +75,6 @@ class Interface(unittest.TestCase):
         self.assertEqual(values.Value.__module__, "anyworker.values")
         self.assertEqual(values.Step.__module__, "anyworker.values")
         self.assertEqual(services.Service.__module__, "anyworker.services")
+        self.assertEqual(fleets.Fleet.__module__, "anyworker.fleets")
+        self.assertEqual(fleets.BoundFleet.__module__, "anyworker.fleets")
+        self.assertEqual(fleets.BoundFleet.__bases__, (fleets.Fleet,))

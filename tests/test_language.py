@@ -9,7 +9,7 @@ FOLDER = os.path.join(os.path.dirname(os.path.dirname(os.path.abspath(__file__))
 
 BUILTINS = (
     "len range enumerate zip min max sum abs sorted reversed int str bool list tuple dict set isinstance ord "
-    "repr any all divmod ValueError TypeError KeyError IndexError LookupError NotImplemented iter next property"
+    "repr any all divmod super ValueError TypeError KeyError IndexError LookupError NotImplemented iter next property"
 ).split()
 
 DUNDERS = (
@@ -67,7 +67,9 @@ class Language(unittest.TestCase):
             self.assertIsInstance(node, ast.ImportFrom, at)
             folder, name = node.module.split(".")
             self.assertEqual((folder, node.level), ("anyworker", 0), at)
-            made = [part.name for part in self.trees[name + ".py"].body if hasattr(part, "name")]
+            body = self.trees[name + ".py"].body
+            made = [part.name for part in body if hasattr(part, "name")]
+            made += [part.targets[0].id for part in body if isinstance(part, ast.Assign)]
             for alias in node.names:
                 self.assertIn(alias.name, made, at)
             reached[at.split(".py:")[0]].append(name)

@@ -36,16 +36,6 @@ def greatest_shapes(seed, many):
             yield plain.service_shape(chance, *form, many=12, signs=8)
 
 
-def changed(chance, shape):
-    """The shape with the steps of one kind made anew."""
-    own, common, kinds = shape
-    names = [name for name, _ in own + common]
-    at = chance.randrange(len(kinds)) if kinds else 0
-    return own, common, [
-        (name, many, plain.kind_steps(chance, names, 5, 3) if place == at else steps)
-        for place, (name, many, steps) in enumerate(kinds)]
-
-
 def odometer(last):
     """Counts through 450 states, and answers 1 just behind the last of them."""
     done = answer(cell("d").same(0) & cell("c").same(0) & cell("b").same(0) & cell("a").same(0))
@@ -164,7 +154,7 @@ class FirstUnlike(unittest.TestCase):
         found = []
         for shape in shapes(9, 500):
             own = [name for name, _ in shape[0]]
-            other = changed(chance, shape)
+            other = plain.changed(chance, shape)
             if chance.random() < 0.6:
                 other = plain.forgetting(shape, [name for name in own if chance.random() < 0.5])
             one, two = plain.build(shape), plain.build(other)
@@ -179,7 +169,7 @@ class FirstUnlike(unittest.TestCase):
     def test_compared_with_all_lists(self):
         chance = random.Random(10)
         for shape in shapes(11, 80):
-            other = changed(chance, shape)
+            other = plain.changed(chance, shape)
             one, two = plain.build(shape), plain.build(other)
             meant = None
             for many in range(1, 5):
@@ -211,7 +201,7 @@ class FirstUnlike(unittest.TestCase):
         chance = random.Random(12)
         for shape in greatest_shapes(13, 3):
             other = plain.forgetting(shape, [name for name, _ in shape[0] if chance.random() < 0.5])
-            for two in [shape, other, changed(chance, shape)]:
+            for two in [shape, other, plain.changed(chance, shape)]:
                 meant = plain.first_unlike(shape, two)
                 self.assertEqual(first_unlike(plain.build(shape), plain.build(two)), meant)
                 self.assertEqual(first_unlike(plain.build(two), plain.build(shape)), meant)
@@ -324,7 +314,7 @@ class Machine(unittest.TestCase):
         for shape in shapes(17, 300):
             other = plain.forgetting(shape, [name for name, _ in shape[0] if chance.random() < 0.5])
             if chance.random() < 0.4:
-                other = changed(chance, shape)
+                other = plain.changed(chance, shape)
             one, two = plain.build(shape), plain.build(other)
             found.append(first_unlike(one, two) is None)
             self.assertEqual(found[-1], machine(one) == machine(two))
