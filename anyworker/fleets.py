@@ -1,7 +1,7 @@
 """Fleets: workers that serve a service, request by request."""
 
-from anyworker.errors import InvalidValues, NothingToUndo, UnknownKind, WrongWorker
-from anyworker.serving import at_first, check_request, check_worker, served_apart
+from anyworker.errors import InvalidValues, NothingToUndo, WrongWorker
+from anyworker.serving import at_first, check_kinds, check_request, check_worker, served_apart
 
 
 class Fleet:
@@ -135,12 +135,9 @@ class BoundFleet(Fleet):
     """A fleet in which requests of some kinds are only served by worker 0."""
 
     def __init__(self, service, kinds):
-        known = [name for name, _ in service.kinds]
-        for name in kinds:
-            if name not in known:
-                raise UnknownKind(name)
+        check_kinds(service, kinds)
         super().__init__(service)
-        self._bound = [name for name in known if name in kinds]
+        self._bound = [name for name, _ in service.kinds if name in kinds]
 
     def __call__(self, kind, argument=0, worker=None):
         return self._asked(kind, argument, worker)

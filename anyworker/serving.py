@@ -18,6 +18,14 @@ def check_request(service, kind, argument):
         raise InvalidArgument(argument)
 
 
+def check_kinds(service, names):
+    """Raises UnknownKind for the first name that no kind of a service has."""
+    known = [name for name, _ in service.kinds]
+    for name in names:
+        if name not in known:
+            raise UnknownKind(name)
+
+
 def check_worker(worker):
     """Raises InvalidWorker if the number of a worker is negative."""
     if worker < 0:

@@ -1,9 +1,9 @@
 """What several workers make of a service, and whether it minds who serves."""
 
 from anyworker.courses import Course
-from anyworker.errors import NotFree, UnknownName, UnlikeCells, UnlikeKinds
+from anyworker.errors import NotFree, UnlikeCells, UnlikeKinds
 from anyworker.names import all_sets, has_more
-from anyworker.serving import at_first, check_request, check_worker, requests_of, served_apart
+from anyworker.serving import at_first, check_kinds, check_request, check_worker, requests_of, served_apart
 from anyworker.sides import Side, all_places, first_wrong, least_missed, moves
 
 # The worker that goes wrong and all others, as the first row numbers them.
@@ -69,10 +69,7 @@ def fewest_missed(service):
 
 def bound_parting(service, kinds):
     """Returns the first row that does not hold although worker 0 serves all requests of some kinds."""
-    known = [name for name, _ in service.kinds]
-    for name in kinds:
-        if name not in known:
-            raise UnknownName(name)
+    check_kinds(service, kinds)
     side = _plain_side(service)
     return _first_row(service, _bound_rows(service, side, kinds))
 

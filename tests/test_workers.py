@@ -2,7 +2,7 @@ import random
 import unittest
 
 from anyworker.errors import (
-    InvalidArgument, InvalidWorker, NotFree, UnknownKind, UnknownName, UnlikeCells, UnlikeKinds, WorkError,
+    InvalidArgument, InvalidWorker, NotFree, UnknownKind, UnlikeCells, UnlikeKinds, WorkError,
 )
 from anyworker.services import Service, sharing
 from anyworker.values import answer, cell, passed, put, when
@@ -344,14 +344,27 @@ class BoundParting(unittest.TestCase):
         self.assertIsNone(bound_parting(service=tally(), kinds=["swap", "add"]))
         self.assertIsNone(bound_parting(tally(), ["swap", "add", "swap", "set"]))
 
-    def test_unknown_names(self):
-        for kinds, wrong in [(["n"], "n"), (["add", "c"], "c"), (["adds", "c"], "adds"), ([""], "")]:
-            kept = list(kinds)
-            with self.assertRaises(WorkError) as caught:
-                bound_parting(tally(), kinds)
-            self.assertIs(type(caught.exception), UnknownName)
-            self.assertEqual(caught.exception.value, wrong)
-            self.assertEqual(kinds, kept)
+    def test_unknown_kinds(self):
+        for kinds, wrong in [
+            (["zzz"], "zzz"), (["n"], "n"), (["add", "c"], "c"), (["adds", "c"], "adds"), (["add", "c", "adds"], "c"),
+            (["zz", "add", "aa"], "zz"), (["add", "set", "swap", "add", "b"], "b"), ([""], ""), (["Add"], "Add"),
+        ]:
+            self.fails(tally(), kinds, wrong)
+
+    def test_unknown_kinds_of_a_free_service(self):
+        free = Service([], [("c", 2)], [("set", 2, [put("c", passed())])])
+        for kinds, wrong in [(["c"], "c"), (["set", "sets"], "sets")]:
+            self.fails(free, kinds, wrong)
+        for service in [Service([], [], []), Service([("n", 3)], [], [("add", 1, [])])]:
+            self.fails(service, ["zzz"], "zzz")
+
+    def fails(self, service, kinds, wrong):
+        kept = list(kinds)
+        with self.assertRaises(WorkError) as caught:
+            bound_parting(service, kinds)
+        self.assertIs(type(caught.exception), UnknownKind)
+        self.assertEqual(caught.exception.value, wrong)
+        self.assertEqual(kinds, kept)
 
     def test_compared_with_all_short_rows(self):
         chance = random.Random(13)
